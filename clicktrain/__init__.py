@@ -1,0 +1,1 @@
+"""Clicktrain: trains of wheels, clicks, rockers and springs, and what pushes leave."""
