@@ -1,16 +1,16 @@
 """Rows of deeds and what they leave, once or often: points 7 and 8."""
 
 from clicktrain.errors import NoCount, NoRow
-from clicktrain.trains import check_stand, is_whole
+from clicktrain.trains import check_stand, is_way, is_whole
 
 
 def is_deed(thing, parts):
     if not isinstance(thing, tuple) or len(thing) != 3:
         return False
     i, way, times = thing
-    if not is_whole(i) or not is_whole(way) or not is_whole(times):
+    if not is_whole(i) or not is_way(way) or not is_whole(times):
         return False
-    return 0 <= i < parts and way in (1, -1) and times >= 0
+    return 0 <= i < parts and times >= 0
 
 
 def check_row(train, row):

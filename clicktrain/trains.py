@@ -46,14 +46,25 @@ def place_count(part):
     return part[1]
 
 
+def is_stand(train, thing):
+    """Whether it is a stand of the train, which is right."""
+    if not isinstance(thing, tuple) or len(thing) != len(train):
+        return False
+    for part, place in zip(train, thing):
+        if not is_whole(place) or place < 0 or place >= place_count(part):
+            return False
+    return True
+
+
 def check_stand(train, stand):
     """None, or NoTrain, and behind that NoStand where it is no stand of the train."""
     check_train(train)
-    if not isinstance(stand, tuple) or len(stand) != len(train):
-        raise NoStand("a stand is a tuple with a place for each part")
-    for part, place in zip(train, stand):
-        if not is_whole(place) or place < 0 or place >= place_count(part):
-            raise NoStand("a place of a stand is none of its part's")
+    if not is_stand(train, stand):
+        raise NoStand("a stand is a tuple with a place of each part")
+
+
+def is_way(thing):
+    return is_whole(thing) and thing in (1, -1)
 
 
 def wheel_pushed(part, place, way):

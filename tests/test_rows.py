@@ -8,25 +8,12 @@ from clicktrain import rows
 from clicktrain.errors import NoCount, NoRow, NoStand, NoTrain
 from clicktrain.rows import left, left_often
 from tests.plain import (CLICK, FULL_TRAINS, HUGE, LONG_TRAINS, NO_NUMBERS, NO_TRAINS, PARTS, ROCKER, TRAINS,
-                         copied, refusal, row_by_words, rows_for, same_kind, stands_by_words)
+                         copied, no_rows, refusal, row_by_words, rows_for, same_kind, stands_by_words)
 
 NO_COUNTS = NO_NUMBERS + [-1, -2, -HUGE]
 
 BIG_TEETH = 9 * 10 ** 39 + 7
 BIG_MARKS = tuple([0] + [BIG_TEETH // 41 * step + step for step in range(1, 39)] + [BIG_TEETH - 1])
-
-
-def no_rows(parts):
-    """Things that are no row of a train of so many parts."""
-    found = [None, True, False, 0, "", "0+1", (), ((0, 1, 1),), [None], [0], [True], ["0+1"], [()], [[]],
-             [[0, 1, 1]], [(0, 1)], [(0,)], [(0, 1, 1, 1)], [((0, 1, 1),)], [[(0, 1, 1)]],
-             [(-1, 1, 1)], [(parts, 1, 1)], [(HUGE, 1, 1)], [(0, 0, 1)], [(0, 2, 1)], [(0, -2, 1)], [(0, HUGE, 1)],
-             [(0, 1, -1)], [(0, -1, -HUGE)], [(parts, 1, 0)], [(0, 0, 0)]]
-    for wrong in NO_NUMBERS:
-        found += [[(wrong, 1, 1)], [(0, wrong, 1)], [(0, 1, wrong)]]
-    good = (parts - 1, -1, 3)
-    found += [[good] * 15 + [(0, 1, True)], [(0, True, 1)] + [good] * 15, [good, [0, 1, 1], good]]
-    return found
 
 
 def passed(teeth, marks, place, way, times):

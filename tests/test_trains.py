@@ -7,7 +7,7 @@ from clicktrain import trains
 from clicktrain.errors import NoStand, NoTrain, TrainError
 from clicktrain.trains import check_stand, check_train, pushed, stand_count, stands_of
 from tests.plain import (CLICK, FULL_TRAINS, HUGE, LONG_TRAINS, NO_NUMBERS, NO_TRAINS, PARTS, ROCKER, TRAINS,
-                         copied, push_by_words, refusal, same_kind, stands_by_words)
+                         copied, no_stands, push_by_words, refusal, same_kind, stands_by_words)
 
 
 class Interface(unittest.TestCase):
@@ -49,17 +49,6 @@ class CheckTrain(unittest.TestCase):
     def test_the_refusal_is_a_value_error(self):
         with self.assertRaises(ValueError):
             check_train([])
-
-
-def no_stands(train):
-    """Things that are no stand of the train."""
-    last = stands_by_words(train)[-1]
-    found = [None, True, 0, "", "0", (), [], list(last), [last], (last,), last[:-1], last + (0,), (0,) + last,
-             last + (None,), str(last)]
-    for at, place in enumerate(last):
-        for wrong in NO_NUMBERS + [-1, place + 1, -HUGE, HUGE]:
-            found.append(last[:at] + (wrong,) + last[at + 1:])
-    return found
 
 
 class CheckStand(unittest.TestCase):
