@@ -266,6 +266,7 @@ class Judges(unittest.TestCase):
         more = right + [((0, 1), 7), ((1, 1), 8)]
         for numbers, holds in [(right, True), (right[::-1], True), (more, True), (more[::-1], True), (more[:3], False),
                                (right + [((0, 1), 7), ((1, 1), 9)], False), (right + [((0, 1), 0), ((1, 1), 0)], True),
+                               (right + [((0, 1), -1), ((1, 1), 0)], False), (right + [((0, 1), -1), ((1, 1), -1)], False),
                                (right + right, False), (right[:1], False), (right[1:], False),
                                ([((0, 0), 0), ((1, 0), 0)], False), ([((0, 0), 1), ((1, 0), 1)], False)]:
             self.assertIs(shows_row(train, (0, 0), (1, 0), keys, ("row", [(0, 1)], numbers)), holds, numbers)
