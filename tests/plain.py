@@ -271,6 +271,18 @@ NO_PAPERS = [
     ("", "", ""), ([[]], [[]], [[]]), ([[None]], [[]], [[]]), ([["none"]], [], []), ([[()]], [], []),
     [[[[[[[[[[]]]]]]]]]], ((((((((((),),),),),),),),),), ("alike", [[[[[[[[[]]]]]]]]]),
     ("never", [((((((((0,),),),),),),),)]), ([[((((((((0,),),),),),),),)]], [], []),
+    "wheel", "none", ("wheel",), ("none",), ("wheel", 1), ("wheel", 1, ()), ("wheel", (), []), ("wheel", 1, (), [], []),
+    ("wheel", 0, (), []), ("wheel", -1, (), []), ("wheel", None, (), []), ("wheel", True, (), []),
+    ("wheel", "1", (), []),
+    ("wheel", 1, [], []), ("wheel", 1, (), ()), ("wheel", 1, None, []), ("wheel", 1, (), None), ("wheel", 1, (1,), []),
+    ("wheel", 1, (False,), []), ("wheel", 1, ([],), []), ("wheel", 1, (), [None]), ("wheel", 2, (), []),
+    ("wheel", 2, (), [None]), ("wheel", 2, (), [()]), ("wheel", 2, (), [[]]), ("wheel", 2, (), [(0, 0)]),
+    ("wheel", HUGE, (), []), ("wheel", HUGE, (HUGE - 1,), []), ["wheel", 1, (), []], ("Wheel", 1, (), []),
+    (["wheel"], 1, (), []), ("none", 0), ("none", None, None), ("none", True, True), ("none", False, False),
+    ("none", False, True), ("none", -1, -1), ("none", HUGE, HUGE), ("none", 0, HUGE), ("none", -HUGE, 0),
+    ("none", "0", "0"),
+    ("none", (0,), (0,)), ("none", [0], [0]), ("none", (0, 0)), ("none", 0, 0, 0), ["none", 0, 0], ("None", 0, 0),
+    (None, 0, 0), (["none"], 0, 0),
 ]
 
 
@@ -286,7 +298,8 @@ def bent_here(thing):
     if isinstance(thing, int):
         return bent_number(thing)
     if isinstance(thing, str):
-        return ["", thing.upper(), thing + " ", None, "alike", "apart", "row", "never", (thing,), [thing], True, 0]
+        return ["", thing.upper(), thing + " ", None, "alike", "apart", "row", "never", "wheel", "none",
+                (thing,), [thing], True, 0]
     other_kind = tuple(thing) if isinstance(thing, list) else list(thing)
     found = [other_kind, None, "", True, thing[:0], thing[::-1], thing + thing, thing + type(thing)([None])]
     for at in range(len(thing)):

@@ -22,6 +22,11 @@ locals methodcaller os quit setattr type vars sys hash map filter format round p
 NODES_LEFT_OUT = (ast.Global, ast.AsyncFunctionDef, ast.AsyncFor, ast.AsyncWith, ast.Await, ast.Div, ast.MatMult,
                   ast.Import)
 
+# Methods of texts, lists and dicts that may be called.
+METHODS = set("""append clear copy count endswith extend find get index insert isalnum isalpha isdigit islower isspace
+isupper items join keys ljust lower lstrip partition pop remove replace reverse rfind rjust rpartition rsplit rstrip
+setdefault split splitlines startswith strip update upper values zfill bit_length add discard""".split())
+
 
 def parsed():
     for path in sorted(PACKAGE.rglob("*.py")):
@@ -39,6 +44,17 @@ def bound_names(tree):
             yield node.id
         elif isinstance(node, ast.alias):
             yield node.asname or node.name
+
+
+def top_names(tree):
+    """The names that a file binds itself at module level."""
+    found = []
+    for node in tree.body:
+        if isinstance(node, (ast.FunctionDef, ast.ClassDef)):
+            found.append(node.name)
+        elif isinstance(node, ast.Assign):
+            found += [target.id for target in node.targets]
+    return found
 
 
 class Language(unittest.TestCase):
@@ -85,6 +101,68 @@ class Language(unittest.TestCase):
                 if isinstance(node, ast.Constant):
                     self.assertNotIsInstance(node.value, float, name)
                     self.assertNotIn("%", node.value if isinstance(node.value, str) else "", name)
+
+    def test_imports_name_the_file_that_defines_and_go_no_ring(self):
+        defines = {name[:-3]: set(top_names(tree)) for name, text, tree in parsed()}
+        ahead = {name[:-3]: sorted({node.module.split(".")[1] for node in tree.body if isinstance(node,
+                                                                                                  ast.ImportFrom)})
+                 for name, text, tree in parsed()}
+        for name, text, tree in parsed():
+            for node in tree.body:
+                if isinstance(node, ast.ImportFrom):
+                    for alias in node.names:
+                        self.assertIn(alias.name, defines[node.module.split(".")[1]], name)
+                        used = [inner.id for inner in ast.walk(tree) if isinstance(inner, ast.Name)]
+                        self.assertIn(alias.asname or alias.name, used, name)
+        for start in ahead:
+            reached, new = set(), list(ahead[start])
+            while new:
+                module = new.pop()
+                if module not in reached:
+                    reached.add(module)
+                    new += ahead[module]
+            self.assertNotIn(start, reached)
+
+    def test_names_are_bound_once_and_never_hide_an_import_or_a_class(self):
+        for name, text, tree in parsed():
+            imported = [alias.asname or alias.name for node in tree.body if isinstance(node, ast.ImportFrom)
+                        for alias in node.names]
+            bound = imported + top_names(tree)
+            self.assertEqual(len(set(bound)), len(bound), name)
+            hidden = set(imported) | {node.name for node in tree.body if isinstance(node, ast.ClassDef)}
+            for function in [node for node in ast.walk(tree) if isinstance(node, ast.FunctionDef)]:
+                local = set(bound_names(function)) - {function.name}
+                self.assertFalse(local & hidden, (name, function.name, local & hidden))
+
+    def test_no_name_is_a_method_and_an_attribute(self):
+        methods, attributes = set(), set()
+        for name, text, tree in parsed():
+            for node in ast.walk(tree):
+                if isinstance(node, ast.ClassDef):
+                    methods |= {inner.name for inner in node.body if isinstance(inner, ast.FunctionDef)}
+                if isinstance(node, ast.Attribute) and isinstance(node.ctx, ast.Store):
+                    attributes.add(node.attr)
+        self.assertFalse(methods & attributes)
+        for name, text, tree in parsed():
+            for node in ast.walk(tree):
+                if isinstance(node, ast.Attribute):
+                    self.assertIn(node.attr, methods | attributes | METHODS, name)
+
+    def test_module_level_values_hold_no_list_or_dict_within(self):
+        for name, text, tree in parsed():
+            for node in tree.body:
+                if isinstance(node, ast.Assign):
+                    inner = [one for one in ast.walk(node.value) if one is not node.value]
+                    self.assertFalse([one for one in inner if isinstance(one,
+                                                                         (ast.List, ast.Dict, ast.Set, ast.Call))],
+                                                                         name)
+
+    def test_is_stands_with_none_and_truths_alone(self):
+        for name, text, tree in parsed():
+            for node in ast.walk(tree):
+                if isinstance(node, ast.Compare) and any(isinstance(sign, (ast.Is, ast.IsNot)) for sign in node.ops):
+                    self.assertIsInstance(node.comparators[0], ast.Constant, name)
+                    self.assertIn(node.comparators[0].value, (None, True, False), name)
 
 
 if __name__ == "__main__":
